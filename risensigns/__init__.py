@@ -1,0 +1,1 @@
+"""Risensigns: how high the signs of a text can rise."""

@@ -189,8 +189,9 @@ def _stepped(rule, row, at, most):
     height = 1 + min(row.heights[at:end])
     if rule.right and height > most:
         raise Beyond(height)
-    fresh = Row(rule.right, [height] * len(rule.right))
-    return row[0:at] + fresh + row[end:len(row)]
+    stepped = row[0:len(row)]
+    stepped[at:end] = Row(rule.right, [height] * len(rule.right))
+    return stepped
 
 
 def _read_rule(line, number):

@@ -60,6 +60,13 @@ class Lot:
         return state in self._last
 
 
+def meant_lot(book, lot):
+    """Return the lot that a question is about; None stands for all texts over the book's signs."""
+    if lot is None:
+        return Lot.every(book.signs)
+    return lot
+
+
 def machine_size(book, lot, *, most):
     """Return the size of the question about the lot within the bound."""
     check_bound(most, GREATEST_BOUND)
@@ -92,14 +99,14 @@ def _leads_of(moves):
 
 def _check_useful(states, last, moves):
     """Raise Useless with the least useless state, if there is one."""
-    begun = _reached([0], [(state, to) for state, _, to in moves])
-    ended = _reached(last, [(to, state) for state, _, to in moves])
+    begun = led_to([0], [(state, to) for state, _, to in moves])
+    ended = led_to(last, [(to, state) for state, _, to in moves])
     for state in range(states):
         if state not in begun or state not in ended:
             raise Useless(state)
 
 
-def _reached(starts, links):
+def led_to(starts, links):
     """Return a dict of the states that zero or more links lead to from the starts."""
     follows = {}
     for state, to in links:

@@ -6,6 +6,7 @@ import unittest
 
 from risensigns.books import Book, Rule
 from risensigns.rows import Row
+from risensigns.verdicts import judge, least_enough
 
 ROOT = os.path.dirname(os.path.dirname(os.path.abspath(__file__)))
 
@@ -19,6 +20,14 @@ class Examples(unittest.TestCase):
 
     def test_book(self):
         self.assertEqual(list(Book.read("ab:b\nb:").steps(Row("aab"))), [(0, 1), (1, 2)])
+
+    def test_judge(self):
+        verdict = judge(Book.read("ab:b"), most=0)
+        self.assertEqual((verdict.enough, verdict.least, verdict.play().text, list(verdict.play())),
+                         (False, 2, "ab", [(0, 0)]))
+
+    def test_least_enough(self):
+        self.assertEqual(least_enough(Book.read("ab:b"), most=4), 1)
 
     def test_readme(self):
         path = os.path.join(ROOT, "README.md")

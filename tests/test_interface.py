@@ -3,7 +3,7 @@
 import inspect
 import unittest
 
-from risensigns import books, lots, rows
+from risensigns import books, lots, machines, played, reached, rows, verdicts
 
 SIGNATURES = [
     (rows.Row, "(text='', heights=None)"),
@@ -27,6 +27,23 @@ SIGNATURES = [
     (lots.Lot.every, "(signs)"),
     (lots.Lot.only, "(*texts)"),
     (lots.machine_size, "(book, lot, *, most)"),
+    (machines.Machine, "(states, last, edges, free)"),
+    (machines.Machine.edges, "(self)"),
+    (machines.Machine.free, "(self)"),
+    (machines.Machine.ends, "(self, start, row)"),
+    (machines.holds, "(machine, book, *, most, lot=None)"),
+    (played.Play, "(book, text, steps)"),
+    (played.Play.rows, "(self)"),
+    (played.Play.end, "(self)"),
+    (verdicts.Verdict.play, "(self)"),
+    (verdicts.Verdict.limit, "(self, many)"),
+    (verdicts.judge, "(book, *, most, lot=None)"),
+    (verdicts.least_enough, "(book, *, most, lot=None)"),
+    (verdicts.tried, "(book, rule, *, most, lot=None)"),
+    (reached.comes, "(book, lot, *, most)"),
+    (reached.history, "(book, lot, row, *, most)"),
+    (reached.reaches, "(book, lot, goal, *, most)"),
+    (reached.strays, "(book, lot, *, most)"),
 ]
 
 MEMBERS = {
@@ -37,13 +54,21 @@ MEMBERS = {
                  "steps", "take", "growths", "grown", "weight", "limit"],
     books.Trial: ["__enter__", "__exit__"],
     lots.Lot: ["states", "last", "moves", "__contains__", "every", "only"],
+    machines.Machine: ["states", "last", "edges", "free", "ends", "__contains__"],
+    played.Play: ["__len__", "__iter__", "rows", "end"],
+    verdicts.Verdict: ["play", "limit", "__bool__"],
 }
 
 PROPERTIES = [(rows.Row, "signs"), (rows.Row, "heights"), (books.Book, "signs"), (books.Book, "longest"),
-              (lots.Lot, "states"), (lots.Lot, "last"), (lots.Lot, "moves")]
+              (lots.Lot, "states"), (lots.Lot, "last"), (lots.Lot, "moves"),
+              (machines.Machine, "states"), (machines.Machine, "last")]
 
 FILES = {"risensigns.rows": [rows.Row], "risensigns.books": [books.Rule, books.Book, books.Trial],
-         "risensigns.lots": [lots.Lot, lots.machine_size]}
+         "risensigns.lots": [lots.Lot, lots.machine_size],
+         "risensigns.machines": [machines.Machine, machines.holds],
+         "risensigns.played": [played.Play],
+         "risensigns.verdicts": [verdicts.Verdict, verdicts.judge, verdicts.least_enough, verdicts.tried],
+         "risensigns.reached": [reached.comes, reached.history, reached.reaches, reached.strays]}
 
 
 class Interface(unittest.TestCase):
@@ -65,8 +90,18 @@ class Interface(unittest.TestCase):
             self.assertIsInstance(vars(listed)[name], classmethod)
 
     def test_generators(self):
-        for listed in (books.Book.steps, books.Book.growths):
+        for listed in (books.Book.steps, books.Book.growths, machines.Machine.edges, machines.Machine.free,
+                       played.Play.rows):
             self.assertTrue(inspect.isgeneratorfunction(listed))
+
+    def test_attributes(self):
+        book = books.Book.read("ab:b")
+        self.assertEqual(vars(books.Rule("a", "b")), {"left": "a", "right": "b"})
+        self.assertEqual(vars(played.Play(book, "ab", []))["text"], "ab")
+        for most in (0, 1):
+            attributes = vars(verdicts.judge(book, most=most))
+            for name in ("enough", "most", "machine", "least"):
+                self.assertIn(name, attributes)
 
     def test_each_stands_in_its_file(self):
         for name, listed in FILES.items():

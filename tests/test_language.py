@@ -117,6 +117,38 @@ class Language(unittest.TestCase):
             if isinstance(node, ast.arg):
                 self.assertNotIn(node.arg, TAKEN, name)
 
+    def test_names_of_methods_and_attributes(self):
+        assigned = {node.attr for _, node in nodes()
+                    if isinstance(node, ast.Attribute) and isinstance(node.ctx, ast.Store)}
+        methods = [part for _, node in nodes() if isinstance(node, ast.ClassDef)
+                   for part in node.body if isinstance(part, ast.FunctionDef)]
+        self.assertEqual(assigned & {method.name for method in methods}, set())
+        yielding = [method.name for method in methods
+                    if any(isinstance(node, (ast.Yield, ast.YieldFrom)) for node in ast.walk(method))]
+        self.assertEqual(sorted(yielding), ["edges", "free", "growths", "rows", "steps"])
+        for name in yielding:
+            self.assertEqual([method.name for method in methods].count(name), 1)
+
+    def test_generator_expressions_and_sets(self):
+        for name, node in nodes():
+            self.assertNotIsInstance(node, (ast.GeneratorExp, ast.Lambda, ast.Set), name)
+            if isinstance(node, ast.Call) and ast.unparse(node.func) not in ("sorted", "len"):
+                for given in node.args:
+                    self.assertNotIsInstance(given, ast.SetComp, (name, node.lineno))
+                    self.assertFalse(ast.unparse(given).startswith("set("), (name, node.lineno))
+
+    def test_local_names(self):
+        for name, text in texts():
+            tree = ast.parse(text)
+            taken = {part.name for part in tree.body if isinstance(part, (ast.FunctionDef, ast.ClassDef))}
+            taken |= {alias.name for part in tree.body if isinstance(part, ast.ImportFrom) for alias in part.names}
+            for node in ast.walk(tree):
+                if isinstance(node, ast.FunctionDef):
+                    stored = {part.id for part in ast.walk(node)
+                              if isinstance(part, ast.Name) and isinstance(part.ctx, ast.Store)}
+                    stored |= {part.arg for part in ast.walk(node) if isinstance(part, ast.arg)}
+                    self.assertEqual(stored & taken, set(), (name, node.name))
+
     def test_methods(self):
         own = {node.name for _, node in nodes() if isinstance(node, ast.FunctionDef)}
         for name, node in nodes():
